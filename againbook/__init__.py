@@ -1,0 +1,1 @@
+"""Againbook: a run kept as a book, and brought up to date."""
