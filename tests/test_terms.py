@@ -1,20 +1,7 @@
 import unittest
 
 from againbook.terms import names_in, term_text, worth
-
-TOP = 10 ** 18
-
-
-def num(number):
-    return ("num", number)
-
-
-def var(name):
-    return ("var", name)
-
-
-def op(sign, left, right):
-    return ("op", sign, left, right)
+from programs import TOP, num, op, var
 
 
 def nested(depth, leaf):
