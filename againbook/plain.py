@@ -1,16 +1,7 @@
 """The plain run of a program: statement by statement, with no book kept."""
 
-from againbook.errors import NoCount, NoName, TooDeep, TooLong
 from againbook.terms import worth
-
-DEEPEST = 15
-
-
-def def_of(program, f):
-    for one in program:
-        if one[0] == f:
-            return one
-    raise NoName(f)
+from againbook.turns import Turns, begun, deeper, named
 
 
 # What an asking puts next to be done, the last statement first. A while that goes round stands behind its own body,
@@ -24,21 +15,10 @@ def behind_asking(statement, held):
     return []
 
 
-class PlainRun:
+class PlainRun(Turns):
     def __init__(self, program, cells, most):
+        Turns.__init__(self, cells, most)
         self.program = program
-        self.cells = cells
-        self.most = most
-        self.left = {}
-        self.turns = 0
-
-    def take_turn(self):
-        if self.turns >= self.most:
-            raise TooLong()
-        self.turns += 1
-
-    def number_in(self, cell):
-        return self.left[cell] if cell in self.left else self.cells.get(cell, 0)
 
     def answer_of(self, one, args, deep):
         held = dict(zip(one[1], args))
@@ -61,21 +41,17 @@ class PlainRun:
         elif word == "write":
             self.left[worth(statement[1], held)] = worth(statement[2], held)
         elif word == "call":
-            held[statement[1]] = self.called(statement, held, deep + 1)
+            held[statement[1]] = self.called(statement, held, deeper(deep))
         else:
             todo.extend(behind_asking(statement, held))
 
     def called(self, statement, held, deep):
-        if deep > DEEPEST:
-            raise TooDeep()
         args = tuple([worth(term, held) for term in statement[3]])
-        return self.answer_of(def_of(self.program, statement[2]), args, deep)
+        return self.answer_of(named(self.program, statement[2]), args, deep)
 
 
 def plain(program, f, args, cells, most):
-    one = def_of(program, f)
-    if len(args) != len(one[1]):
-        raise NoCount(f)
+    one = begun(program, f, args)
     run = PlainRun(program, cells, most)
     answer = run.answer_of(one, args, 0)
     return (answer, run.left, run.turns)

@@ -1,6 +1,9 @@
-"""Terms, statements and programs for the tests."""
+"""Terms, statements and programs for the tests, and what the document says of them told once more in another way."""
 
 import random
+
+from againbook.errors import TooDeep, TooLong
+from againbook.reader import read
 
 SIGNS = "+-*/<="
 TOP = 10 ** 18
@@ -16,6 +19,18 @@ def var(name):
 
 def op(sign, left, right):
     return ("op", sign, left, right)
+
+
+def add(left, right):
+    return op("+", left, right)
+
+
+def sub(left, right):
+    return op("-", left, right)
+
+
+def body_of(text):
+    return read("def main\n" + text + "\nend")[0][2]
 
 
 def made_def(name, params, *body):
@@ -101,3 +116,149 @@ class Maker:
 
 def made_programs(many):
     return [Maker(seed).program() for seed in range(many)]
+
+
+def variables(term):
+    if term[0] == "op":
+        return variables(term[2]) | variables(term[3])
+    return {term[1]} if term[0] == "var" else set()
+
+
+def passed(statement, rest):
+    """A statement's own terms, the variable that it puts into, and each row of statements that may be done next."""
+    word = statement[0]
+    if word in ("set", "read"):
+        return [statement[2]], statement[1], [rest]
+    if word == "write":
+        return [statement[1], statement[2]], None, [rest]
+    if word == "call":
+        return list(statement[3]), statement[1], [rest]
+    if word == "if":
+        return [statement[1]], None, [statement[2] + rest, statement[3] + rest]
+    if word == "while":
+        return [statement[1]], None, [statement[2] + (statement,) + rest, rest]
+    return [statement[1]], None, []
+
+
+def is_used_ahead(name, todo, behind=()):
+    """Whether a variable is used ahead, by going each way on from a row of statements."""
+    seen = set()
+    waiting = [todo]
+    while waiting:
+        todo = waiting.pop()
+        if todo in seen:
+            continue
+        seen.add(todo)
+        if not todo:
+            if name in behind:
+                return True
+            continue
+        terms, put, ways = passed(todo[0], todo[1:])
+        if any(name in variables(term) for term in terms):
+            return True
+        if put != name:
+            waiting.extend(ways)
+    return False
+
+
+def numbered(body, numbers):
+    """The statements, each cut with its number as one thing more at its end."""
+    told = []
+    for statement in body:
+        if statement[0] in ("set", "give"):
+            told.append(statement)
+            continue
+        n = next(numbers)
+        if statement[0] == "if":
+            first = numbered(statement[2], numbers)
+            statement = statement[:2] + (first, numbered(statement[3], numbers))
+        elif statement[0] == "while":
+            statement = statement[:2] + (numbered(statement[2], numbers),)
+        told.append(statement + (n,))
+    return tuple(told)
+
+
+class Given(Exception):
+    pass
+
+
+class Simple:
+    """The plain run once more, by recursion and by the document's words, to lay the program's answers beside."""
+
+    def __init__(self, program, cells, most):
+        self.defs = {name: (params, body) for name, params, body in program}
+        self.cells = dict(cells)
+        self.written = {}
+        self.turns = 0
+        self.most = most
+
+    def term(self, term, held):
+        if term[0] != "op":
+            return term[1] if term[0] == "num" else held.get(term[1], 0)
+        left, right = self.term(term[2], held), self.term(term[3], held)
+        whole = {"+": left + right, "-": left - right, "*": left * right, "/": left // right if right else 0,
+                 "<": int(left < right), "=": int(left == right)}
+        return whole[term[1]] % TOP
+
+    def turn(self):
+        if self.turns == self.most:
+            raise TooLong()
+        self.turns += 1
+
+    def run(self, f, numbers, deep):
+        params, body = self.defs[f]
+        try:
+            self.body(body, dict(zip(params, numbers)), deep)
+        except Given as given:
+            return given.args[0]
+        return 0
+
+    def body(self, body, held, deep):
+        for statement in body:
+            getattr(self, "do_" + statement[0])(held, deep, *statement[1:])
+
+    def do_set(self, held, deep, name, term):
+        held[name] = self.term(term, held)
+
+    def do_read(self, held, deep, name, term):
+        self.turn()
+        cell = self.term(term, held)
+        held[name] = {**self.cells, **self.written}.get(cell, 0)
+
+    def do_write(self, held, deep, cell, term):
+        self.turn()
+        self.written[self.term(cell, held)] = self.term(term, held)
+
+    def do_call(self, held, deep, name, f, terms):
+        self.turn()
+        if deep == 15:
+            raise TooDeep()
+        held[name] = self.run(f, [self.term(term, held) for term in terms], deep + 1)
+
+    def do_if(self, held, deep, term, body, other):
+        self.turn()
+        self.body(body if self.term(term, held) else other, held, deep)
+
+    def do_while(self, held, deep, term, body):
+        self.turn()
+        while self.term(term, held):
+            self.body(body, held, deep)
+            self.turn()
+
+    def do_give(self, held, deep, term):
+        raise Given(self.term(term, held))
+
+
+def are_plain(value):
+    """Whether nothing but tuples, texts and whole numbers that are no truths are in it."""
+    if type(value) is tuple:
+        return all(are_plain(one) for one in value)
+    return type(value) in (str, int)
+
+
+def told_or_refused(told, *handed):
+    """What a function tells, or the class of its refusal."""
+    try:
+        return told(*handed)
+    except (TooLong, TooDeep) as refusal:
+        return type(refusal)

@@ -78,6 +78,32 @@ class FormTest(unittest.TestCase):
                 self.assertIn(node.id, ALLOWED_BUILTINS, (name, node.lineno))
                 self.assertIsInstance(node.ctx, ast.Load, (name, node.lineno))
 
+    def test_no_name_is_a_method_and_a_value(self):
+        methods, values = set(), set()
+        for _, node in self.nodes():
+            if isinstance(node, ast.ClassDef):
+                methods |= {one.name for one in node.body if isinstance(one, ast.FunctionDef)}
+            if isinstance(node, ast.Attribute) and isinstance(node.ctx, ast.Store):
+                values.add(node.attr)
+        self.assertEqual(methods & values, set())
+
+    def test_no_local_is_called_like_a_class_or_an_import(self):
+        for name, tree in self.trees.items():
+            taken = {node.name for node in tree.body if isinstance(node, ast.ClassDef)}
+            taken |= {one.asname or one.name for node in tree.body if isinstance(node, ast.ImportFrom)
+                      for one in node.names}
+            for node in ast.walk(tree):
+                if isinstance(node, ast.arg):
+                    self.assertNotIn(node.arg, taken, (name, node.lineno))
+                if isinstance(node, ast.Name) and isinstance(node.ctx, ast.Store):
+                    self.assertNotIn(node.id, taken, (name, node.lineno))
+
+    def test_one_name_is_given_at_a_time(self):
+        for name, node in self.nodes():
+            if isinstance(node, ast.Assign):
+                self.assertEqual(len(node.targets), 1, (name, node.lineno))
+                self.assertNotIsInstance(node.targets[0], (ast.Tuple, ast.List), (name, node.lineno))
+
 
 if __name__ == "__main__":
     unittest.main()

@@ -3,97 +3,15 @@ import unittest
 from againbook.errors import NoCount, NoName, TooDeep, TooLong
 from againbook.plain import plain
 from againbook.reader import read
-from programs import SIGNS, TOP, Maker, call, give, loop, made_def, num, one_def, op, read_to, set_to, var, when, write
-
-
-def add(left, right):
-    return op("+", left, right)
-
-
-class Given(Exception):
-    pass
-
-
-class Simple:
-    """The plain run once more, by recursion and by the document's words, to lay the program's answers beside."""
-
-    def __init__(self, program, cells, most):
-        self.defs = {name: (params, body) for name, params, body in program}
-        self.cells = dict(cells)
-        self.written = {}
-        self.turns = 0
-        self.most = most
-
-    def term(self, term, held):
-        if term[0] != "op":
-            return term[1] if term[0] == "num" else held.get(term[1], 0)
-        left, right = self.term(term[2], held), self.term(term[3], held)
-        whole = {"+": left + right, "-": left - right, "*": left * right, "/": left // right if right else 0,
-                 "<": int(left < right), "=": int(left == right)}
-        return whole[term[1]] % TOP
-
-    def turn(self):
-        if self.turns == self.most:
-            raise TooLong()
-        self.turns += 1
-
-    def run(self, f, numbers, deep):
-        params, body = self.defs[f]
-        try:
-            self.body(body, dict(zip(params, numbers)), deep)
-        except Given as given:
-            return given.args[0]
-        return 0
-
-    def body(self, body, held, deep):
-        for statement in body:
-            getattr(self, "do_" + statement[0])(held, deep, *statement[1:])
-
-    def do_set(self, held, deep, name, term):
-        held[name] = self.term(term, held)
-
-    def do_read(self, held, deep, name, term):
-        self.turn()
-        cell = self.term(term, held)
-        held[name] = {**self.cells, **self.written}.get(cell, 0)
-
-    def do_write(self, held, deep, cell, term):
-        self.turn()
-        self.written[self.term(cell, held)] = self.term(term, held)
-
-    def do_call(self, held, deep, name, f, terms):
-        self.turn()
-        if deep == 15:
-            raise TooDeep()
-        held[name] = self.run(f, [self.term(term, held) for term in terms], deep + 1)
-
-    def do_if(self, held, deep, term, body, other):
-        self.turn()
-        self.body(body if self.term(term, held) else other, held, deep)
-
-    def do_while(self, held, deep, term, body):
-        self.turn()
-        while self.term(term, held):
-            self.body(body, held, deep)
-            self.turn()
-
-    def do_give(self, held, deep, term):
-        raise Given(self.term(term, held))
+from programs import (
+    SIGNS, TOP, Maker, Simple, add, call, give, loop, made_def, num, one_def, op, read_to, set_to, told_or_refused, var,
+    when, write,
+)
 
 
 def simple(program, f, args, cells, most):
     run = Simple(program, cells, most)
-    try:
-        return run.run(f, args, 0), run.written, run.turns
-    except (TooLong, TooDeep) as refusal:
-        return type(refusal)
-
-
-def told(program, f, args, cells, most):
-    try:
-        return plain(program, f, args, cells, most)
-    except (TooLong, TooDeep) as refusal:
-        return type(refusal)
+    return run.run(f, args, 0), run.written, run.turns
 
 
 class PlainTest(unittest.TestCase):
@@ -444,8 +362,9 @@ class MadeTest(unittest.TestCase):
                 args = tuple([maker.number() for _ in params])
                 for most in (0, 1, 2, 5, 20, 300):
                     with self.subTest(seed=seed, f=f, most=most):
-                        expected = simple(program, f, args, cells, most)
-                        self.assertEqual(told(program, f, args, cells, most), expected)
+                        handed = (program, f, args, cells, most)
+                        expected = told_or_refused(simple, *handed)
+                        self.assertEqual(told_or_refused(plain, *handed), expected)
                         sort = expected if isinstance(expected, type) else "answer"
                         seen[sort] = seen.get(sort, 0) + 1
         for sort in (TooLong, TooDeep, "answer"):
