@@ -1,4 +1,4 @@
-"""Steps: what the deed of a cut needs, and where a step leads."""
+"""Steps: what the deed of a cut needs, what a step did and found, and where it leads."""
 
 from againbook.terms import worth
 from againbook.turns import named
@@ -33,6 +33,19 @@ def deed_at(part, n, held):
     return (word,) + worths(deed[1:], numbers)
 
 
+# What the deed of a step needed, told as deed_at tells it, but out of what was done.
+def deed_in(what):
+    if what[0] == "read":
+        return what[:2]
+    if what[0] == "call":
+        return ("call",) + what[1][:2]
+    return what
+
+
+def found_in(what):
+    return what[1][3] if what[0] == "call" else what[-1]
+
+
 # Where a way leads from these numbers, which are the way's own to change.
 def end_of(part, way, numbers):
     for name, term in way[0]:
@@ -52,9 +65,14 @@ def onward(part, step):
     cut = cut_at(part, step[0])
     numbers = held_at(part, step[0], step[1])
     what = step[2]
-    if what[0] == "read":
-        numbers[cut[1][1]] = what[2]
-    elif what[0] == "call":
-        numbers[cut[1][1]] = what[1][3]
+    if what[0] in ("read", "call"):
+        numbers[cut[1][1]] = found_in(what)
     way = cut[2][1] if what == ("ask", 0) else cut[2][0]
     return end_of(part, way, numbers)
+
+
+# Where a chain goes ahead of its step of this number, or behind its last one, told as first_of and onward tell it.
+def goal_at(chain, number):
+    if number == len(chain[2]):
+        return ("give", chain[3])
+    return ("go",) + chain[2][number][:2]

@@ -3,7 +3,9 @@
 import random
 
 from againbook.errors import TooDeep, TooLong
+from againbook.maker import made
 from againbook.reader import read
+from againbook.runner import BookRun, run
 
 SIGNS = "+-*/<="
 TOP = 10 ** 18
@@ -112,6 +114,58 @@ class Maker:
         self.names = ["a", "b", "c", "x", "longname"]
         self.counts = {f: self.chance.randrange(4) for f in ["main", "f", "other"][:self.chance.randrange(1, 4)]}
         return tuple([(f, tuple(self.names[:many]), self.body(0)) for f, many in self.counts.items()])
+
+
+class BusyMaker(Maker):
+    """Programs that go round and call often and come to an end, on so few cells that a change of one mostly is read."""
+
+    def number(self):
+        return self.chance.randrange(4)
+
+    def term(self, depth):
+        if depth == 0 or self.chance.randrange(2):
+            return var(self.pick(self.names)) if self.chance.randrange(3) else num(self.number())
+        return op(self.pick("+-<="), self.term(depth - 1), self.term(depth - 1))
+
+    def rounds(self, depth):
+        name = "ij"[depth]
+        often = op("<", var(name), num(self.chance.randrange(1, 4)))
+        return set_to(name, num(0)), loop(often, *self.body(depth + 1), set_to(name, add(var(name), num(1))))
+
+    def statements(self, depth):
+        words = ["set", "read", "read", "read", "write", "write", "call", "call", "if", "while"]
+        word = self.pick(words if depth < 2 else words[:8])
+        if word == "set":
+            return [set_to(self.pick(self.names), self.term(2))]
+        if word == "read":
+            return [read_to(self.pick(self.names), self.term(1))]
+        if word == "write":
+            return [write(self.term(0), self.term(1))]
+        if word == "if":
+            return [when(self.term(1), self.body(depth + 1), self.body(depth + 1))]
+        if word == "while":
+            return self.rounds(depth)
+        # A def calls those behind it alone, so the calls end.
+        later = sorted(f for f in self.counts if f > self.f)
+        if not later:
+            return [give(self.term(1))] if self.chance.randrange(4) == 0 else []
+        f = self.pick(later)
+        return [call(self.pick(self.names), f, *[self.term(0) for _ in range(self.counts[f])])]
+
+    def body(self, depth):
+        many = self.chance.randrange(2, 6) if depth == 0 else self.chance.randrange(1, 3)
+        return tuple([one for _ in range(many) for one in self.statements(depth)])
+
+    def program(self):
+        self.names = ["a", "b", "x"]
+        self.counts = {"f": 2, "g": 1, "h": 1}
+        defs = []
+        for self.f, many in self.counts.items():
+            defs.append((self.f, tuple(self.names[:many]), self.body(0) + (give(self.term(1)),)))
+        return tuple(defs)
+
+    def cells(self):
+        return {cell: self.number() for cell in range(4)}
 
 
 def made_programs(many):
@@ -262,3 +316,43 @@ def told_or_refused(told, *handed):
         return told(*handed)
     except (TooLong, TooDeep) as refusal:
         return type(refusal)
+
+
+class WildRun(BookRun):
+    """A run whose reads find this and that, so that its book is right, but mostly true of no cells."""
+
+    def number_in(self, cell):
+        return self.cells.number()
+
+
+class Busy:
+    """A program, numbers to begin with and cells, always the same ones for the same seed, and its books."""
+
+    def __init__(self, seed):
+        self.maker = BusyMaker(seed)
+        self.parts = made(self.maker.program())
+        self.args = (self.maker.number(), self.maker.number())
+        self.cells = self.maker.cells()
+
+    def book(self, cells, most=300):
+        return run(self.parts, "f", self.args, cells, most)
+
+    def wild_book(self):
+        return WildRun(self.parts, self.maker, 300).chain_of(self.parts[0], self.args, 0)
+
+    def changed(self, many):
+        """The cells with so many of them put other, or put as they were."""
+        cells = dict(self.cells)
+        for _ in range(many):
+            cells[self.maker.chance.randrange(4)] = self.maker.number()
+        return cells
+
+
+def steps_by_path(chain):
+    steps = {}
+    for number, step in enumerate(chain[2]):
+        steps[number,] = step
+        if step[2][0] == "call":
+            for path, inner in steps_by_path(step[2][1]).items():
+                steps[(number,) + path] = inner
+    return steps

@@ -6,20 +6,14 @@ from againbook.maker import made
 from againbook.plain import plain
 from againbook.reader import read
 from againbook.runner import run
-from programs import TOP, Given, Maker, Simple, are_plain, numbered, told_or_refused
-
-
-def steps_in(chain):
-    for step in chain[2]:
-        yield step
-        if step[2][0] == "call":
-            yield from steps_in(step[2][1])
+from programs import TOP, Given, Maker, Simple, are_plain, numbered, steps_by_path, told_or_refused
 
 
 def as_plain(chain):
     """What the plain run tells, as a book tells it."""
-    written = {step[2][1]: step[2][2] for step in steps_in(chain) if step[2][0] == "write"}
-    return chain[3], written, len(list(steps_in(chain)))
+    steps = steps_by_path(chain)
+    written = {steps[path][2][1]: steps[path][2][2] for path in sorted(steps) if steps[path][2][0] == "write"}
+    return chain[3], written, len(steps)
 
 
 class RunnerTest(unittest.TestCase):
@@ -40,7 +34,7 @@ class RunnerTest(unittest.TestCase):
     def tells(self, expected, text, args=(), cells=(), f="main"):
         chain = self.told(text, args, cells, f=f)
         self.assertEqual(chain, expected)
-        turns = len(list(steps_in(chain)))
+        turns = len(steps_by_path(chain))
         self.told(text, args, cells, turns, f)
         for most in range(turns):
             self.refused(TooLong, text, args, cells, most, f)
